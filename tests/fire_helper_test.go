@@ -23,6 +23,23 @@ func storeOf(t *testing.T, text string, room int, single bool) impl.Store {
 	return s
 }
 
+// spoilings are ways to make a store of two facts "a 1" one that is not valid.
+func spoilings() map[string]func(*impl.Store) {
+	return map[string]func(*impl.Store){
+		"Next 0":           func(s *impl.Store) { s.Next = 0 },
+		"Next of a fact":   func(s *impl.Store) { s.Next = 2 },
+		"Next too great":   func(s *impl.Store) { s.Next = impl.MaxTag + 2 },
+		"Cap too small":    func(s *impl.Store) { s.Cap = 1 },
+		"Cap below 0":      func(s *impl.Store) { s.Cap = -1 },
+		"Cap too great":    func(s *impl.Store) { s.Cap = impl.MaxFacts + 1 },
+		"two facts alike":  func(s *impl.Store) { s.Single = true },
+		"the zero store":   func(s *impl.Store) { *s = impl.Store{} },
+		"a bad symbol":     func(s *impl.Store) { s.Facts[1].Slots[0] = symbol("Bad") },
+		"a bad class":      func(s *impl.Store) { s.Facts[1].Cls = "Bad" },
+		"a tag out of row": func(s *impl.Store) { s.Facts[1].Tag = 1 },
+	}
+}
+
 // showFacts writes what factsOf reads, with all tags.
 func showFacts(facts []impl.Fact) string {
 	var parts []string

@@ -28,20 +28,7 @@ func TestFireOfStoresThatAreNotValid(t *testing.T) {
 	for what, facts := range badFacts() {
 		wantNoFiring(t, what, impl.Fire(rules, impl.Store{Facts: facts, Next: impl.MaxTag, Cap: impl.MaxFacts}, instOf(t, "0:1")))
 	}
-	for what, spoil := range map[string]func(*impl.Store){
-		"Next 0":           func(s *impl.Store) { s.Next = 0 },
-		"Next of a fact":   func(s *impl.Store) { s.Next = 2 },
-		"Next too great":   func(s *impl.Store) { s.Next = impl.MaxTag + 2 },
-		"Cap too small":    func(s *impl.Store) { s.Cap = 1 },
-		"Cap below 0":      func(s *impl.Store) { s.Cap = -1 },
-		"Cap too great":    func(s *impl.Store) { s.Cap = impl.MaxFacts + 1 },
-		"two facts alike":  func(s *impl.Store) { s.Single = true },
-		"the zero store":   func(s *impl.Store) { *s = impl.Store{} },
-		"an empty store":   func(s *impl.Store) { *s = impl.Store{Next: 1} },
-		"a bad symbol":     func(s *impl.Store) { s.Facts[1].Slots[0] = symbol("Bad") },
-		"a bad class":      func(s *impl.Store) { s.Facts[1].Cls = "Bad" },
-		"a tag out of row": func(s *impl.Store) { s.Facts[1].Tag = 1 },
-	} {
+	for what, spoil := range spoilings() {
 		s := storeOf(t, "a 1; a 1", 9, false)
 		if got := impl.Fire(rules, s, instOf(t, "0:1")); got.Code != impl.CodeOK || !got.Halt {
 			t.Fatalf("%+v", got)
@@ -49,6 +36,7 @@ func TestFireOfStoresThatAreNotValid(t *testing.T) {
 		spoil(&s)
 		wantNoFiring(t, what, impl.Fire(rules, s, instOf(t, "0:1")))
 	}
+	wantNoFiring(t, "an empty store", impl.Fire(rules, impl.Store{Next: 1}, instOf(t, "0:1")))
 }
 
 func TestFireOfWhatIsNotInTheConflictSet(t *testing.T) {
